@@ -1,0 +1,1 @@
+"""Lastside: caches steered by a tree of flags."""

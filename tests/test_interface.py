@@ -1,0 +1,69 @@
+"""The interface: names, parameters, and where each of them is defined."""
+
+import ast
+import importlib
+import inspect
+import os
+import unittest
+
+FOLDER = os.path.join(os.path.dirname(os.path.dirname(os.path.abspath(__file__))), "lastside")
+
+FUNCTIONS = {
+    "trees": ["joined(*trees, side='L')", "shapes(slots)"],
+    "flags": ["flags_after(tree, flags, slot)", "victim_of(tree, flags)", "blocking(tree, flags, slot)",
+              "fits(flags, pattern)", "mirrored_flags(pattern)", "each_flags(tree)", "all_after(tree, flags, slots)"],
+    "notation": ["format_run(run)", "parse_run(text)", "format_cache(cache)", "parse_cache(text)"],
+}
+METHODS = {
+    ("trees", "Tree"): [
+        "__init__(self, text)", "__str__(self)", "__len__(self)", "__eq__(self, other)", "__add__(self, other)",
+        "sides(self, fork)", "path(self, slot)", "depth(self, slot)", "span(self, fork)", "walk(self, *, last=False)",
+        "subtree(self, fork)", "collapsed(self, fork)", "mirrored(self)", "grown(self, slot)", "closed(self, slot)",
+        "even(cls, height)", "comb(cls, slots, *, side='R')"],
+    ("caches", "Cache"): [
+        "__init__(self, tree, flags, entries)", "__len__(self)", "__eq__(self, other)", "__contains__(self, entry)",
+        "listed(self)", "at(self, slot)", "slot_of(self, entry)", "request(self, entry)", "hit(self, slot)",
+        "twin(self)", "fresh(cls, tree)"],
+}
+PROPERTIES = {("trees", "Tree"): ["forks", "height", "least_depth", "is_even", "top"], ("caches", "Cache"): ["victim"]}
+GENERATORS = {"shapes", "walk", "each_flags"}
+
+
+def module(name):
+    return importlib.import_module("lastside." + name)
+
+
+class InterfaceTest(unittest.TestCase):
+    def test_functions(self):
+        for name, lines in FUNCTIONS.items():
+            for line in lines:
+                function = getattr(module(name), line.partition("(")[0])
+                self.assertEqual(function.__name__ + str(inspect.signature(function)), line)
+                self.assertEqual(function.__module__, "lastside." + name)
+                self.assertEqual(inspect.isgeneratorfunction(function), function.__name__ in GENERATORS, line)
+
+    def test_methods(self):
+        for (name, owner), lines in METHODS.items():
+            for line in lines:
+                method = vars(getattr(module(name), owner))[line.partition("(")[0]]
+                method = getattr(method, "__func__", method)
+                self.assertEqual(method.__name__ + str(inspect.signature(method)), line)
+                self.assertEqual(inspect.isgeneratorfunction(method), method.__name__ in GENERATORS, line)
+
+    def test_properties(self):
+        for (name, owner), names in PROPERTIES.items():
+            for one in names:
+                self.assertIsInstance(vars(getattr(module(name), owner))[one], property)
+
+    def test_all_stand_in_their_own_file(self):
+        for name in sorted(set(FUNCTIONS) | {file for file, _ in METHODS}):
+            with open(os.path.join(FOLDER, name + ".py"), encoding="utf-8") as file:
+                body = ast.parse(file.read()).body
+            defined = {node.name for node in body if isinstance(node, (ast.FunctionDef, ast.ClassDef))}
+            wanted = {line.partition("(")[0] for line in FUNCTIONS.get(name, [])}
+            wanted |= {owner for file, owner in METHODS if file == name}
+            self.assertLessEqual(wanted, defined)
+
+
+if __name__ == "__main__":
+    unittest.main()
