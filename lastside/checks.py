@@ -53,6 +53,12 @@ def check_pattern(tree, pattern):
         raise InvalidFlags(pattern)
 
 
+def check_end(tree, end):
+    """Raises InvalidFlags for every value that is neither None nor a pattern of the tree."""
+    if end is not None:
+        check_pattern(tree, end)
+
+
 def is_slot(tree, value):
     """True if the value is a slot of the tree."""
     return is_number(value, 0, len(tree) - 1)

@@ -573,6 +573,7 @@ def method_faults(trees):
             if is_generator(node):
                 generators.add(node.name)
     faults.extend(("L5", 1, name) for name in special & (plain | attributes))
+    faults.extend(("L18", 1, name) for name in plain & attributes)
     faults.extend(("L23", 1, name) for name in generators if functions.count(name) > 1)
     for name in (plain | special) & BUILTIN_ATTRIBUTES:
         if name in special or name not in FIRST_METHODS | {"add", "discard"}:

@@ -13,6 +13,19 @@ FUNCTIONS = {
     "flags": ["flags_after(tree, flags, slot)", "victim_of(tree, flags)", "blocking(tree, flags, slot)",
               "fits(flags, pattern)", "mirrored_flags(pattern)", "each_flags(tree)", "all_after(tree, flags, slots)"],
     "notation": ["format_run(run)", "parse_run(text)", "format_cache(cache)", "parse_cache(text)"],
+    "runs": ["talk(tree, run, fork)", "first_wrong(tree, start, run)", "wrong_lines(tree, start, run)",
+             "mended(tree, start, run)", "end_pattern(tree, start, run)", "play(tree, start, run)",
+             "restricted(tree, run, fork)", "collapsed_run(tree, run, fork)"],
+    "origins": ["origins(tree, run)", "origin_count(tree, run)", "loadable(tree, start, slots)", "rows_of(tree, run)"],
+    "blocks": ["least_blocks(row)", "cut_count(row, blocks)", "each_cut(row, blocks)",
+               "merges(length, least, other_length, other_least, *, same)"],
+    "weaving": ["weaving_count(tree, start, rows, *, end=None)", "first_weaving(tree, start, rows, *, end=None)",
+                "weaving_at(tree, start, rows, rank, *, end=None)", "weaving_rank(tree, start, run, *, end=None)",
+                "each_weaving(tree, start, rows, *, end=None)"],
+    "openings": ["openings(tree, start, rows, *, end=None)", "is_openings(tree, start, rows, table, *, end=None)",
+                 "told_start(tree, rows)", "told_end(tree, start, rows)"],
+    "transfer": ["least_requests(tree, start, end, renewed)", "need_table(tree, start, end, renewed)",
+                 "is_need_table(tree, start, end, renewed, table)", "is_transfer(tree, start, end, renewed, run)"],
 }
 METHODS = {
     ("trees", "Tree"): [
@@ -26,7 +39,7 @@ METHODS = {
         "twin(self)", "fresh(cls, tree)"],
 }
 PROPERTIES = {("trees", "Tree"): ["forks", "height", "least_depth", "is_even", "top"], ("caches", "Cache"): ["victim"]}
-GENERATORS = {"shapes", "walk", "each_flags"}
+GENERATORS = {"shapes", "walk", "each_flags", "each_cut", "each_weaving"}
 
 
 def module(name):
