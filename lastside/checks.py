@@ -108,6 +108,11 @@ def is_line(value, last):
     return value[0] in KINDS and is_number(value[1], 0, last)
 
 
+def is_run(tree, value):
+    """True if the value is a list of lines of the tree."""
+    return isinstance(value, list) and all([is_line(line, len(tree) - 1) for line in value])
+
+
 def check_lines(run, last):
     """Raises InvalidLine for every value that is not a list of lines with slots from 0 to last."""
     if not isinstance(run, list):

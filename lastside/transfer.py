@@ -23,6 +23,17 @@ class Need:
         rows = [("l", self.by_load, self.renewed), ("h", self.by_hit, self.renewed + 1)]
         return [row for row in rows if row[1] is not None]
 
+    def shortest(self):
+        """The least number of requests."""
+        if self.empty:
+            return 0
+        return min([length for letter, length, least in self.choices()])
+
+
+def slot_need(renewed):
+    """What a slot needs that is, or is not, renewed."""
+    return Need(1, 1, 2, False) if renewed else Need(0, None, 1, True)
+
 
 def costs(length, least, other, ends):
     """The costs of a beginning side with this least length and these least blocks, beside another side.
@@ -59,9 +70,7 @@ def needs(tree, start, end, renewed):
     check_pattern(tree, start)
     check_pattern(tree, end)
     check_chosen(tree, renewed)
-    found = {}
-    for slot in range(len(tree)):
-        found[("slot", slot)] = Need(1, 1, 2, False) if slot in renewed else Need(0, None, 1, True)
+    found = {("slot", slot): slot_need(slot in renewed) for slot in range(len(tree))}
     for fork in tree.walk(last=True):
         left, right = tree.sides(fork)
         found[("fork", fork)] = fork_need(found[left], found[right], start[fork], end[fork])
@@ -70,10 +79,7 @@ def needs(tree, start, end, renewed):
 
 def least_requests(tree, start, end, renewed):
     """The least number of requests of a transfer."""
-    root = needs(tree, start, end, renewed)[tree.top]
-    if root.empty:
-        return 0
-    return min([length for letter, length, least in root.choices()])
+    return needs(tree, start, end, renewed)[tree.top].shortest()
 
 
 def need_table(tree, start, end, renewed):

@@ -26,6 +26,16 @@ FUNCTIONS = {
                  "told_start(tree, rows)", "told_end(tree, start, rows)"],
     "transfer": ["least_requests(tree, start, end, renewed)", "need_table(tree, start, end, renewed)",
                  "is_need_table(tree, start, end, renewed, table)", "is_transfer(tree, start, end, renewed, run)"],
+    "plans": ["plan_count(tree, start, end, renewed, length)", "plan_at(tree, start, end, renewed, length, rank)",
+              "plan_rank(tree, start, end, run)", "first_plan(tree, start, end, renewed)"],
+    "trails": ["trails(tree, flags)", "hangs_on(tree, flags, slot)", "needed(tree, start, end)",
+               "least_hits(tree, start, end)", "least_hits_with(tree, start, end, slot)",
+               "surely_used(tree, start, end)", "may_be_used(tree, start, end, length)"],
+    "hitplans": ["hit_plan_count(tree, start, end)", "hit_plan_at(tree, start, end, rank)",
+                 "hit_plan_rank(tree, start, end, slots)", "is_hit_plan(tree, start, end, slots)"],
+    "past": ["past_count(tree, flags)", "past_at(tree, flags, rank)", "past_rank(tree, flags, order)",
+             "fits_past(tree, flags, order)", "surely_before(tree, flags, slot, other)", "oldest_count(tree, flags)"],
+    "spread": ["spread_to(tree, flags)", "spread_from(tree, flags)", "greatest_distance(tree)"],
 }
 METHODS = {
     ("trees", "Tree"): [

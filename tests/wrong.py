@@ -3,7 +3,7 @@
 All of them are meant for the tree TEXT of four slots.
 """
 
-from lastside.errors import InvalidFlags, InvalidFork, InvalidLine, InvalidNumber, InvalidRow, InvalidSlot
+from lastside.errors import InvalidFlags, InvalidFork, InvalidLine, InvalidNumber, InvalidRow, InvalidRule, InvalidSlot
 from tests.plain import STRANGE
 
 TEXT = "((..)(..))"
@@ -61,6 +61,27 @@ def wrong_forks():
     return [(value, InvalidFork, (value,)) for value in values]
 
 
+def wrong_orders():
+    found = wrong_slot_lists(True)
+    return found + [(slots, InvalidSlot, (slots,)) for slots in ([], [0], [2, 1, 3], [3, 2, 1])]
+
+
+def wrong_marks():
+    values = STRANGE + ["L", "..", "....", "LLLL", "LL?", "???", "l..", [".", ".", "."], (".", ".", "."), "..\n"]
+    # The root is fork 1: a flag on a side needs a slot or a flag there, and below a dot stand dots.
+    values += ["L..", "..R", "L.R", ".L.", ".R.", "LR.", ".LR"]
+    return [(value, InvalidFlags, (value,)) for value in values]
+
+
+def wrong_rules():
+    values = STRANGE + ["tt", "ttaa", "TTA", "tta ", "tta,tts", "att", "hit", ["tta"], ("tta",), ["t", "t", "a"], "t?a"]
+    return [(value, InvalidRule, (value,)) for value in values]
+
+
+def too_great(*values):
+    return [(value, InvalidNumber, (value,)) for value in values]
+
+
 WRONG = {
     "flags": wrong_flags() + [("L?L", InvalidFlags, ("L?L",))],
     "pattern": wrong_flags(),
@@ -72,7 +93,13 @@ WRONG = {
     "row": [(value, InvalidRow, (0,)) for value in NO_ROWS],
     "number": wrong_numbers(0),
     "positive": wrong_numbers(1),
+    "length": wrong_numbers(0) + too_great(61, 62, 10 ** 40, BIG),
+    "loads": wrong_numbers(0) + too_great(10 ** 40 + 1, BIG),
     "fork": wrong_forks(),
+    "slot": [(value, InvalidSlot, (value,)) for value in NO_SLOTS],
+    "order": wrong_orders(),
+    "marks": wrong_marks(),
+    "rule": wrong_rules(),
 }
 
 
