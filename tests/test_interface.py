@@ -36,6 +36,18 @@ FUNCTIONS = {
     "past": ["past_count(tree, flags)", "past_at(tree, flags, rank)", "past_rank(tree, flags, order)",
              "fits_past(tree, flags, order)", "surely_before(tree, flags, slot, other)", "oldest_count(tree, flags)"],
     "spread": ["spread_to(tree, flags)", "spread_from(tree, flags)", "greatest_distance(tree)"],
+    "marks": ["is_sound(tree, marks)", "marks_after(tree, marks, slot)", "mark_count(tree)",
+              "least_marking(tree, start, end)"],
+    "staying": ["eviction_number(tree, flags, slot)", "eviction_numbers(tree, flags)", "eviction_plan(tree, flags, slot)",
+                "evictable(tree, flags, count)", "settling_size(tree)", "thrashing(tree)"],
+    "holding": ["hold_rate(tree, kept)", "hold_cycle(tree, kept)", "is_hold_cycle(tree, kept, cycle)",
+                "bound_table(tree, kept)", "is_bound_table(tree, kept, table)"],
+    "mostloads": ["most_loads(tree, start, kept, length)", "most_loads_run(tree, start, kept, length)",
+                  "fewest_to_renew(tree, start, kept, count)", "most_renewed(tree, start, kept, length)"],
+    "alone": ["loads_alone(tree, flags, count)", "flags_alone(tree, flags, count)", "slot_alone(tree, flags, index)",
+              "alone_count(tree, start, end)"],
+    "rules": ["first_wrong_by(tree, rule, flags, run)", "flags_by(tree, rule, flags, run)",
+              "same_rule(tree, rule, other)"],
 }
 METHODS = {
     ("trees", "Tree"): [

@@ -12,7 +12,7 @@ from tests.wrong import TEXT, check_wrong
 
 
 def distances(plain, flags):
-    """The least numbers of hits from the flags to all flags, by a search."""
+    """The least numbers of hits from flags, or from marks, to all that can be reached, by a search."""
     found = {flags: 0}
     waiting = [flags]
     for state in waiting:
