@@ -10,14 +10,18 @@ SIDES = ("L", "R")
 KINDS = ("hit", "load")
 ENTRY_LETTERS = "abcdefghijklmnopqrstuvwxyz0123456789"
 ENTRY_LENGTH = 12
+MOST_ENTRIES = 64
+
+
+def is_whole(value):
+    """True if the value is an integer."""
+    # True and False are instances of int, but the document does not count them as integers.
+    return isinstance(value, int) and not isinstance(value, bool)
 
 
 def is_number(value, low, high):
     """True if the value is an integer from low to high; None in the place of high is no bound."""
-    # True and False are instances of int, but the document does not count them as integers.
-    if isinstance(value, bool) or not isinstance(value, int):
-        return False
-    return low <= value and (high is None or value <= high)
+    return is_whole(value) and low <= value and (high is None or value <= high)
 
 
 def check_number(value, low, high):
@@ -90,15 +94,27 @@ def check_slots(tree, slots):
         check_slot(tree, slot)
 
 
-def check_chosen(tree, slots):
-    """Raises InvalidSlot for every value that is not a list of different slots."""
+def check_different(slots, last):
+    """Raises InvalidSlot for every value that is not a list of different slots from 0 to last."""
     if not isinstance(slots, list):
         raise InvalidSlot(slots)
     seen = set()
     for slot in slots:
-        if not is_slot(tree, slot) or slot in seen:
+        if not is_number(slot, 0, last) or slot in seen:
             raise InvalidSlot(slot)
         seen.add(slot)
+
+
+def check_chosen(tree, slots):
+    """Raises InvalidSlot for every value that is not a list of different slots of the tree."""
+    check_different(slots, len(tree) - 1)
+
+
+def check_order(order, many):
+    """Raises InvalidSlot for every value that is not a list of the slots below this number, each once."""
+    check_different(order, many - 1)
+    if len(order) < many:
+        raise InvalidSlot(order)
 
 
 def is_line(value, last):
@@ -152,12 +168,17 @@ def check_entry(entry):
         raise InvalidEntry(entry)
 
 
-def check_entries(tree, entries):
-    """Raises InvalidEntry for every value that is not a list with one entry for each slot."""
-    if not isinstance(entries, list) or len(entries) != len(tree):
+def check_different_entries(entries, least, most):
+    """Raises InvalidEntry for every value that is not a list of least to most different entries."""
+    if not isinstance(entries, list) or not least <= len(entries) <= most:
         raise InvalidEntry(entries)
     seen = set()
     for entry in entries:
         if not is_entry(entry) or entry in seen:
             raise InvalidEntry(entry)
         seen.add(entry)
+
+
+def check_entries(tree, entries):
+    """Raises InvalidEntry for every value that is not a list with one entry for each slot."""
+    check_different_entries(entries, len(tree), len(tree))

@@ -1,6 +1,6 @@
 """The past: the orders of last use that fit flags."""
 
-from lastside.checks import check_chosen, check_flags, check_number, check_slot
+from lastside.checks import check_flags, check_number, check_order, check_slot
 from lastside.errors import InvalidSlot
 from lastside.flags import victim_of
 from lastside.hanging import Orders
@@ -11,13 +11,6 @@ def fitting_orders(tree, flags):
     """The orders that fit the flags, which are checked first."""
     check_flags(tree, flags)
     return Orders(holders(all_trails(tree, flags)))
-
-
-def check_order(tree, order):
-    """Raises InvalidSlot for every value that is not a list of all slots, each once."""
-    check_chosen(tree, order)
-    if len(order) < len(tree):
-        raise InvalidSlot(order)
 
 
 def past_count(tree, flags):
@@ -42,7 +35,7 @@ def past_rank(tree, flags, order):
 def fits_past(tree, flags, order):
     """True if the order fits the flags."""
     orders = fitting_orders(tree, flags)
-    check_order(tree, order)
+    check_order(order, len(tree))
     return orders.has_order(order)
 
 

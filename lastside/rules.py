@@ -6,6 +6,7 @@ that take the side that a flag does not show or the side that it shows.
 
 from lastside.checks import check_flags, check_run
 from lastside.errors import InvalidRule
+from lastside.flags import MIRRORED_SIDES, victim_of
 
 RULES = ("tta", "tts", "tka", "tks", "kta", "kts", "kka", "kks")
 
@@ -33,6 +34,12 @@ def turned_by(tree, rule, flags, line):
     kind, slot = line
     sides = dict(tree.path(slot)) if turns_flags(rule, kind) else {}
     return "".join([sides.get(fork, flag) for fork, flag in enumerate(flags)])
+
+
+def victim_by(tree, rule, flags):
+    """The slot to which a load goes by the rule; nothing is checked."""
+    # By `s` a load goes where one by `a` goes from the opposite flags.
+    return victim_of(tree, flags if rule[2] == "a" else "".join([MIRRORED_SIDES[side] for side in flags]))
 
 
 def first_wrong_by(tree, rule, flags, run):

@@ -23,6 +23,7 @@ PYTHON_ERRORS = {name for name in BUILTINS if name.endswith("Error")} | {"Except
 CAUGHT_ERRORS = {"KeyError", "ZeroDivisionError"}
 BUILTIN_KEYWORDS = {"sorted": {"key", "reverse"}, "min": {"key", "default"}, "max": {"key", "default"},
                     "sum": {"start"}, "enumerate": {"start"}, "zip": {"strict"}}
+KEYS = {"len", "int", "str", "abs", "sum", "min", "max", "tuple"}
 LIBRARY = {"heapq": {"heappush", "heappop", "heapify", "heapreplace", "heappushpop"},
            "math": {"gcd", "lcm", "isqrt", "comb", "perm", "factorial"},
            "itertools": {"product", "combinations", "permutations"}}
@@ -341,6 +342,20 @@ def double_faults(node, in_class):
     return faults
 
 
+def is_setter(node):
+    """True if a statement of a class is the setter of a property."""
+    return isinstance(node, ast.FunctionDef) and any(
+        isinstance(part, ast.Attribute) and part.attr == "setter" for part in node.decorator_list)
+
+
+def setter_faults(node, body):
+    """True if the setter does not stand right below the property whose name it has, or has other parameters."""
+    before = body[body.index(node) - 1]
+    known = isinstance(before, ast.FunctionDef) and before.name == node.name and [
+        part.id for part in before.decorator_list if isinstance(part, ast.Name)] == ["property"]
+    return not known or node.decorator_list[0].value.id != node.name or len(parameters_of(node)) != 2
+
+
 def class_faults(tree):
     """Classes: L5, L18, L19."""
     faults = []
@@ -348,8 +363,10 @@ def class_faults(tree):
         at = node.lineno
         if node.decorator_list or node.keywords or not all(isinstance(base, ast.Name) for base in node.bases):
             faults.append(("L5", at, "a decorator, a keyword or a base"))
-        methods = [part.name for part in node.body if isinstance(part, ast.FunctionDef)]
+        methods = [part.name for part in node.body if isinstance(part, ast.FunctionDef) and not is_setter(part)]
         faults.extend(("L18", at, name) for name in set(methods) if methods.count(name) > 1)
+        faults.extend(("L5", at, part.name) for part in node.body
+                      if is_setter(part) and setter_faults(part, node.body))
         faults.extend(("L18", at, name) for name in set(methods) & set(attributes_of(node)))
         for place, part in enumerate(node.body):
             if isinstance(part, ast.Assign):
@@ -411,10 +428,14 @@ def read_faults(node, parents, module):
         return []
     if node.id in ("property", "classmethod", "staticmethod"):
         return []
+    if isinstance(parents[node], ast.Attribute) and parents[node].attr == "setter":
+        return []
     if node.id not in BUILTINS:
         return [("L8", node.lineno, node.id)]
     parent = parents[node]
     if node.id in PYTHON_ERRORS or node.id == "NotImplemented":
+        return []
+    if isinstance(parent, ast.keyword) and parent.arg == "key" and node.id in KEYS:
         return []
     in_isinstance = any(called_name(outer) == "isinstance" for outer in above)
     if not (isinstance(parent, ast.Call) and parent.func is node) and not in_isinstance:
@@ -591,6 +612,8 @@ def use_faults(tree, known, generators):
     for node in ast.walk(tree):
         if isinstance(node, ast.Attribute) and node.attr not in known:
             parent = parents[node]
+            if isinstance(parent, ast.FunctionDef) and is_setter(parent):
+                continue
             is_call = isinstance(parent, ast.Call) and parent.func is node
             if not is_call or node.attr not in FIRST_METHODS | MORE_METHODS:
                 faults.append(("L25", node.lineno, node.attr))

@@ -8,9 +8,7 @@ from lastside.errors import InvalidEntry, InvalidFlags, InvalidSlot
 from lastside.trees import Tree
 from tests.case import Case, other_than
 from tests.plain import STRANGE, Plain, large_texts, texts_up_to
-
-NO_ENTRIES = ["", "a" * 13, "A", "a b", "a-b", "a,b", "e_1", " a", "a\n", "\u00e9", "\u00b2", "\u0661", "?", b"a", None,
-              True, False, 0, 1, -1, 10 ** 59, [], ["a"], (), ("a",), [[]]]
+from tests.wrong import NO_ENTRIES
 
 
 def is_number(value):

@@ -48,6 +48,12 @@ FUNCTIONS = {
               "alone_count(tree, start, end)"],
     "rules": ["first_wrong_by(tree, rule, flags, run)", "flags_by(tree, rule, flags, run)",
               "same_rule(tree, rule, other)"],
+    "compare": ["compare(first, second)", "parted_at(first, second, requests)"],
+    "alike": ["signature(cache)", "groups(cache)", "alike(first, second)", "parting_number(first, second)",
+              "queue_order(tree, flags)"],
+    "traces": ["possible_flags(tree, items)", "history(tree, items)", "is_history(tree, items, story)"],
+    "verdicts": ["verdict(tree, items, claim)", "judged(tree, items, claim)",
+                 "is_paper(tree, items, claim, word, paper)"],
 }
 METHODS = {
     ("trees", "Tree"): [
@@ -59,6 +65,12 @@ METHODS = {
         "__init__(self, tree, flags, entries)", "__len__(self)", "__eq__(self, other)", "__contains__(self, entry)",
         "listed(self)", "at(self, slot)", "slot_of(self, entry)", "request(self, entry)", "hit(self, slot)",
         "twin(self)", "fresh(cls, tree)"],
+    ("keepers", "Keeper"): ["__init__(self, entries)", "listed(self)", "slot_of(self, entry)", "request(self, entry)",
+                            "state(self)", "victim_slot(self)", "twin(self)"],
+    ("keepers", "SideKeeper"): ["__init__(self, tree, flags, entries, rule='tta')", "state(self)", "victim_slot(self)",
+                                "twin(self)"],
+    ("keepers", "QueueKeeper"): ["__init__(self, entries, order)", "state(self)", "victim_slot(self)", "twin(self)"],
+    ("keepers", "RecencyKeeper"): ["__init__(self, entries, order)", "state(self)", "victim_slot(self)", "twin(self)"],
 }
 PROPERTIES = {("trees", "Tree"): ["forks", "height", "least_depth", "is_even", "top"], ("caches", "Cache"): ["victim"]}
 GENERATORS = {"shapes", "walk", "each_flags", "each_cut", "each_weaving"}

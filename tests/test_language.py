@@ -51,6 +51,11 @@ class CheckerTest(unittest.TestCase):
         source = '"""A file."""\n\nNAMES = ("a", "b")\n\n\ndef told(names):\n    """What it says."""\n' \
                  '    return [name for name in names if name in NAMES]\n'
         self.assertEqual(file_faults(source), [])
+        source = '"""A file."""\n\n\nclass Desk:\n    """A desk."""\n\n    def __init__(self):\n        self.n = 1\n\n' \
+                 '    @property\n    def many(self):\n        return self.n\n\n' \
+                 '    @many.setter\n    def many(self, value):\n        self.n = value\n'
+        self.assertEqual(file_faults(source), [])
+        self.assertEqual(package_faults({"desks": source}), [])
 
     def test_rows_of_one_file(self):
         rows = [
@@ -60,6 +65,10 @@ class CheckerTest(unittest.TestCase):
             ("L15", "class A:\n    pass\n\n\ndef f(A):\n    return A"),
             ("L4", "def f(a=[]):\n    return a"), ("L4", "def f():\n    def g():\n        pass\n    g()"),
             ("L4", "@staticmethod\ndef f():\n    pass"), ("L5", "class A:\n    def __hash__(self):\n        return 1"),
+            ("L5", "class A:\n    @property\n    def a(self):\n        return 1\n    @a.setter\n    def b(self, x):\n        pass"),
+            ("L5", "class A:\n    @property\n    def a(self):\n        return 1\n    @a.setter\n    def a(self):\n        pass"),
+            ("L5", "class A:\n    @a.setter\n    def a(self, x):\n        pass"), ("L22", "def f(a):\n    return sorted(a, key=zip)"),
+            ("L18", "class A:\n    def a(self):\n        return 1\n\n    def a(self, x):\n        return x"),
             ("L5", "class A(metaclass=B):\n    pass"), ("L5", "class A:\n    x = len([])"),
             ("L5", "class A:\n    def __add__(self, other):\n        self.n = 1\n        return self"),
             ("L6", "def f():\n    global x"), ("L6", "def f(a):\n    with a:\n        pass"),

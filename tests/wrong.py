@@ -1,9 +1,10 @@
 """Wrong arguments of every kind, with the errors that they are due, and certificates with one thing changed.
 
-All of them are meant for the tree TEXT of four slots.
+All of them are meant for the tree TEXT of four slots, claims for the trace TRACE.
 """
 
-from lastside.errors import InvalidFlags, InvalidFork, InvalidLine, InvalidNumber, InvalidRow, InvalidRule, InvalidSlot
+from lastside.errors import InvalidClaim, InvalidEntry, InvalidFlags, InvalidFork, InvalidItem, InvalidLine
+from lastside.errors import InvalidNumber, InvalidRow, InvalidRule, InvalidSlot
 from tests.plain import STRANGE
 
 TEXT = "((..)(..))"
@@ -12,6 +13,33 @@ NO_SLOTS = [None, True, False, -1, 4, 63, 64, BIG, -BIG, "0", "", [], [0], (), (
 NO_LINES = [None, True, 0, "h0", "hit", [], ["hit", 0], (), ("hit",), ("hit", 0, 0), ("hit", -1), ("hit", 4), ("load", 64),
             ("hit", BIG), ("hit", True), ("load", False), ("hit", None), ("hit", "0"), ("hit", [0]), ("load", (0,)),
             ("HIT", 0), ("h", 0), ("request", 0), (None, 0), (0, "hit"), (["hit"], 0), ("", 0)]
+TRACE = [("flags", "L??"), ("request", (0, 3)), ("some", 0, 2), ("load", (1, 2))]
+NO_ENTRIES = ["", "a" * 13, "A", "a b", "a-b", "a,b", "e_1", " a", "a\n", "\u00e9", "\u00b2", "\u0661", "?", b"a", None,
+              True, False, 0, 1, -1, 10 ** 59, [], ["a"], (), ("a",), [[]]]
+NO_SLOT_TUPLES = [None, True, False, 0, "", "0", [], [0], [0, 1], (), (0, 0), (1, 0), (0, 2, 1), (0, 1, 1), (0, True), (False, 1),
+                  (4,), (0, 4), (-1, 0), (0, BIG), (None,), ("0",), ((0,),), ([0],), (0, None)]
+NO_ITEMS = [value for value in STRANGE if value != ("hit", 0)] + [
+    ["flags", "LLL"], ("flags",), ("flags", "LLL", 0), ("flags", ["L", "L", "L"]), ("flags", ("L", "L", "L")), ("flags", "LL"),
+    ("flags", "LLLL"), ("flags", "LLX"), ("flags", "L.L"), ("flags", "lll"), ("flags", None), ("flags", ""), ("flags", 0),
+    ("Flags", "LLL"), ("flag", "LLL"), ("LLL", "flags"), ["hit", (0,)], ["some", 0, None], ("hit",), ("hit", (0,), 1), ("hits", (0,)),
+    ("HIT", (0,)), ("", (0,)), (None, (0,)), (0, (0,)), (True, (0,)), (["hit"], (0,)), (("hit",), (0,)), ((0,), "hit"), ("kept", (0,)),
+    ("some",), ("some", 0), ("some", 0, None, 1), ("some", 1, 0), ("some", -1, None), ("some", -1, 3), ("some", True, 2),
+    ("some", 0, True), ("some", False, None), ("some", 0, False), ("some", 0, -1), ("some", None, None), ("some", None, 2),
+    ("some", "0", None), ("some", 0, "2"), ("some", [0], None), ("some", 0, [2]), ("some", 0, (2,)), ("some", BIG, BIG - 1),
+    ("Some", 0, 1), ("some", (0,))]
+NO_CLAIMS = [value for value in STRANGE] + [
+    ["flag", 0, 0, "L"], ("flag",), ("flag", 0, 0), ("flag", 0, 0, "L", 0), ("flag", 5, 0, "L"), ("flag", -1, 0, "L"),
+    ("flag", BIG, 0, "L"), ("flag", True, 0, "L"), ("flag", None, 0, "L"), ("flag", "0", 0, "L"), ("flag", 0, 3, "L"),
+    ("flag", 0, -1, "L"), ("flag", 0, False, "L"), ("flag", 0, "0", "L"), ("flag", 0, 0, "?"), ("flag", 0, 0, ""), ("flag", 0, 0, "l"),
+    ("flag", 0, 0, "LL"), ("flag", 0, 0, None), ("flag", 0, 0, ["L"]), ("flag", 0, 0, True), ("flags", 0, 0, "L"), (None, 0, 0, "L"),
+    ["kind", 1, "hit"], ("kind",), ("kind", 1), ("kind", 1, "hit", 0), ("kind", 0, "hit"), ("kind", 2, "hit"), ("kind", 4, "hit"),
+    ("kind", -1, "hit"), ("kind", -3, "load"), ("kind", True, "hit"), ("kind", None, "hit"), ("kind", 1, "request"), ("kind", 1, "h"),
+    ("kind", 1, None), ("kind", 1, 0), ("kind", 1, ["hit"]), ("kinds", 1, "hit"), ["slot", 1, 0], ("slot", 1), ("slot", 1, 0, 0),
+    ("slot", 0, 0), ("slot", 2, 0), ("slot", 4, 0), ("slot", -1, 1), ("slot", True, 0), ("slot", 1, 4), ("slot", 1, -1),
+    ("slot", 1, True), ("slot", 1, "0"), ("slot", 1, (0,)), ("slot", 1, None), ("slot", 1, "hit"), ["not slot", 1, 0],
+    ("not slot", 1), ("not slot", 0, 0), ("not slot", 2, 0), ("not slot", 4, 0), ("not slot", -1, 0), ("not slot", 1, 4),
+    ("not slot", 1, False), ("not slot", 1, None), ("not slot", True, 0), ("not_slot", 1, 0), ("not", 1, 0), ("hit", 1, 0), ("", 1, 0),
+    (None, 1, 0), (["slot"], 1, 0), (1, "slot", 0), ("request", (0, 3)), ("some", 0, 2)]
 NO_ROWS = [None, True, 0, 1, -1, "x", "hit", "H", "h ", " ", "hL", "h,l", "?", [], ["h"], (), ("h",), [[]], "h\n"]
 
 
@@ -78,6 +106,31 @@ def wrong_rules():
     return [(value, InvalidRule, (value,)) for value in values]
 
 
+def wrong_entry_lists(counts, twice):
+    """Wrong lists of entries; those with another number of them than these counts are wrong as a whole."""
+    names = [f"e{number}" for number in range(70)]
+    found = [(value, InvalidEntry, (value,)) for value in STRANGE if not is_list(value)]
+    found += [(("a", "b", "c", "d"), InvalidEntry, (("a", "b", "c", "d"),)), ("abcd", InvalidEntry, ("abcd",))]
+    for many in (0, 1, 3, 4, 5, 63, 64, 65):
+        if many not in counts:
+            # The number is checked before the entries.
+            found += [(names[:many], InvalidEntry, (names[:many],)), ([None] * many, InvalidEntry, ([None] * many,))]
+    for entry in NO_ENTRIES:
+        found += [([entry, "b", "c", None], InvalidEntry, (entry,)), (["a", "b", entry, "a"], InvalidEntry, (entry,))]
+    if twice:
+        found += [(["a", "b", "c", "a"], InvalidEntry, ("a",)), (["a", "b", "b", None], InvalidEntry, ("b",))]
+    return found
+
+
+def wrong_items():
+    found = [(value, InvalidItem, (-1,)) for value in STRANGE if not is_list(value)]
+    found += [((("some", 0, None),), InvalidItem, (-1,)), (("flags", "LLL"), InvalidItem, (-1,)), ("flags", InvalidItem, (-1,))]
+    items = NO_ITEMS + [(kind, slots) for kind in ("hit", "load", "request") for slots in NO_SLOT_TUPLES]
+    for item in items:
+        found += [([item], InvalidItem, (0,)), ([("flags", "L?R"), ("load", (0, 3)), item, None], InvalidItem, (2,))]
+    return found
+
+
 def too_great(*values):
     return [(value, InvalidNumber, (value,)) for value in values]
 
@@ -100,6 +153,12 @@ WRONG = {
     "order": wrong_orders(),
     "marks": wrong_marks(),
     "rule": wrong_rules(),
+    "entry": [(value, InvalidEntry, (value,)) for value in NO_ENTRIES],
+    "entries": wrong_entry_lists([4], True),
+    "held": wrong_entry_lists(range(1, 65), True),
+    "requests": wrong_entry_lists(range(66), False),
+    "items": wrong_items(),
+    "claim": [(value, InvalidClaim, (value,)) for value in NO_CLAIMS],
 }
 
 
