@@ -11,7 +11,7 @@ from lastside.errors import InvalidEntry
 from lastside.keepers import QueueKeeper, SideKeeper
 from lastside.trees import Tree
 from tests.case import Case
-from tests.plain import Plain, all_shapes, large_texts, texts_up_to, written
+from tests.plain import Plain, all_shapes, large_texts, size, texts_up_to, written
 from tests.test_compare import plain_compare
 from tests.test_keepers import names, random_flags
 from tests.wrong import TEXT, check_wrong
@@ -24,6 +24,21 @@ def keeper_of(cache):
 def plain_groups(plain, entries):
     """The groups by the words of point 42."""
     return sorted(tuple(sorted(entries[slot] for slot in plain.below(fork))) for fork in range(plain.forks))
+
+
+def plain_signature(shape, flags, entries):
+    """The smallest entry below nested pairs and their signature, by the words of point 42."""
+    if shape is None:
+        return entries[0], entries[0]
+    many = size(shape[0])
+    left = plain_signature(shape[0], flags[:many - 1], entries[:many])
+    right = plain_signature(shape[1], flags[many:], entries[many:])
+    if flags[many - 1] == "L":
+        left = (left[0], "!" + left[1])
+    else:
+        right = (right[0], "!" + right[1])
+    first, last = (left, right) if left[0] < right[0] else (right, left)
+    return first[0], "(" + first[1] + "," + last[1] + ")"
 
 
 def all_caches(many):
@@ -73,6 +88,15 @@ class SignatureTest(Case):
         cache = Cache(Tree(TEXT), "LRR", ["9", "10", "a", "0b"])
         self.exactly(signature(cache), "(!(!0b,a),(10,!9))")
         self.exactly(groups(cache), [("0b", "10", "9", "a"), ("0b", "a"), ("10", "9")])
+
+    def test_texts(self):
+        chance = random.Random(196)
+        for text in texts_up_to(6) + large_texts():
+            for _ in range(10):
+                plain = Plain(text)
+                entries = chance.sample(names(plain.slots) + [f"{number}" for number in range(40)], plain.slots)
+                flags = random_flags(chance, plain.forks)
+                self.exactly(signature(Cache(Tree(text), flags, entries)), plain_signature(plain.shape, flags, entries)[1])
 
     def test_all_caches_of_up_to_five_slots(self):
         for many in (1, 2, 3, 4, 5):

@@ -54,6 +54,17 @@ FUNCTIONS = {
     "traces": ["possible_flags(tree, items)", "history(tree, items)", "is_history(tree, items, story)"],
     "verdicts": ["verdict(tree, items, claim)", "judged(tree, items, claim)",
                  "is_paper(tree, items, claim, word, paper)"],
+    "faults": ["fewest_faults(tree, items, *, wrong=True, false=True, lost=True)",
+               "fault_story(tree, items, *, wrong=True, false=True, lost=True)", "count_faults(tree, items, story)",
+               "fault_table(tree, items, *, wrong=True, false=True, lost=True)",
+               "is_closed_table(tree, items, table, *, wrong=True, false=True, lost=True)"],
+    "hidden": ["tree_total(slots)", "rank_counts(slots)", "each_groups(slots)", "fitting(slots, run)",
+               "sure_groups(slots, run)", "next_victims(slots, run)", "arranged(groups, labels)"],
+    "desks": ["replay(cache, deeds)"],
+    "searching": ["search_least(tree, flags, end, renewed)", "search_hits(tree, flags)",
+                  "search_most_loads(tree, flags, kept, length)", "search_weavings(tree, start, rows, *, end=None)",
+                  "dearest(tree)"],
+    "tables": ["slot_table(cache)", "fork_table(tree, flags)"],
 }
 METHODS = {
     ("trees", "Tree"): [
@@ -71,9 +82,17 @@ METHODS = {
                                 "twin(self)"],
     ("keepers", "QueueKeeper"): ["__init__(self, entries, order)", "state(self)", "victim_slot(self)", "twin(self)"],
     ("keepers", "RecencyKeeper"): ["__init__(self, entries, order)", "state(self)", "victim_slot(self)", "twin(self)"],
+    ("boards", "Board"): ["__init__(self, tree, items)", "tell(self, *claims)", "told(self)", "lot(self)",
+                          "__contains__(self, claim)", "__add__(self, other)", "twin(self)"],
+    ("desks", "Desk"): ["__init__(self, cache)", "request(self, entry)", "hit(self, slot)", "serve(self, *entries)",
+                        "attempt(self, *entries)", "grow(self, slot, entry)", "close(self, slot)", "undo(self, count=1)",
+                        "redo(self, count=1)", "cache(self)", "deeds(self)", "base(self)", "lines(self)", "branch(self)",
+                        "configure(self, **settings)", "settings(self)"],
 }
-PROPERTIES = {("trees", "Tree"): ["forks", "height", "least_depth", "is_even", "top"], ("caches", "Cache"): ["victim"]}
-GENERATORS = {"shapes", "walk", "each_flags", "each_cut", "each_weaving"}
+PROPERTIES = {("trees", "Tree"): ["forks", "height", "least_depth", "is_even", "top"], ("caches", "Cache"): ["victim"],
+              ("desks", "Desk"): ["misses", "capacity"]}
+SETTERS = {("desks", "Desk"): ["capacity"]}
+GENERATORS = {"shapes", "walk", "each_flags", "each_cut", "each_weaving", "each_groups"}
 
 
 def module(name):
@@ -100,7 +119,18 @@ class InterfaceTest(unittest.TestCase):
     def test_properties(self):
         for (name, owner), names in PROPERTIES.items():
             for one in names:
-                self.assertIsInstance(vars(getattr(module(name), owner))[one], property)
+                found = vars(getattr(module(name), owner))[one]
+                self.assertIsInstance(found, property)
+                self.assertEqual(found.fset is not None, one in SETTERS.get((name, owner), []))
+
+    def test_all_headings_of_the_interface(self):
+        """The files that have something to import, and the names that are not functions or methods."""
+        headings = set("""errors trees flags caches notation runs origins blocks weaving openings transfer plans trails
+            hitplans past spread marks staying holding mostloads alone rules keepers compare alike traces verdicts boards
+            faults hidden desks searching tables""".split())
+        self.assertEqual(set(FUNCTIONS) | {name for name, _ in METHODS} | {"errors"}, headings)
+        self.assertEqual(module("trees").Tree.MOST, 64)
+        self.assertEqual(module("rules").RULES, ("tta", "tts", "tka", "tks", "kta", "kts", "kka", "kks"))
 
     def test_all_stand_in_their_own_file(self):
         for name in sorted(set(FUNCTIONS) | {file for file, _ in METHODS}):

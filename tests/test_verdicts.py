@@ -239,6 +239,13 @@ class PaperTest(Case):
             self.exactly(is_paper(tree, TRACE, claim, value, paper), False)
         self.exactly([is_paper(tree, TRACE, claim, "open", paper), is_paper(tree, TRACE, claim, "open", paper[::-1])], [True, False])
         self.assertFalse(alike(paper[0], paper[1]))
+        for items, claim, right in ((TRACE, ("flag", 0, 0, "L"), "sure"), (TRACE, ("flag", 0, 0, "R"), "never"),
+                                    (TRACE + [("flags", "LLL"), ("flags", "RRR")], ("flag", 0, 0, "R"), "void")):
+            word, paper = judged(tree, items, claim)
+            self.exactly(word, right)
+            self.exactly(is_paper(tree, items, claim, word, paper), True)
+            for value in STRANGE + ["Never", "never ", "Sure", "Void", ["never"], ("sure",), 3]:
+                self.exactly(is_paper(tree, items, claim, value, paper), False)
 
 
 class ArgumentsTest(Case):
