@@ -4,6 +4,14 @@ from lastside.checks import check_entries, check_entry, check_flags, check_slot
 from lastside.flags import turned, victim_of
 
 
+def found_slot(entries, entry):
+    """The slot of the entry among these entries by slot, or None if it is not one of them."""
+    check_entry(entry)
+    if entry not in entries:
+        return None
+    return entries.index(entry)
+
+
 class Cache:
     """A cache that answers requests."""
 
@@ -40,10 +48,7 @@ class Cache:
 
     def slot_of(self, entry):
         """The slot of the entry, or None if the entry is not in the cache."""
-        check_entry(entry)
-        if entry not in self._entries:
-            return None
-        return self._entries.index(entry)
+        return found_slot(self._entries, entry)
 
     def request(self, entry):
         """Answers a request for the entry: ("hit", slot, None) or ("load", slot, evicted)."""

@@ -7,6 +7,17 @@ from lastside.sightings import REQUESTS, Turns
 from lastside.trails import trail_from
 
 
+def most_needed(tree, item):
+    """A number of requests that reaches all that the most requests of a gap reach."""
+    # As many hits as there are forks lead from all flags to all flags.
+    return tree.forks if item[2] is None else min(item[2], tree.forks)
+
+
+def bounds_of(tree, items):
+    """The numbers of requests that the gaps of a trace need, as keys."""
+    return {most_needed(tree, item): True for item in items if item[0] == "some"}
+
+
 class Film:
     """A trace that is followed while something is assumed.
 
@@ -23,6 +34,7 @@ class Film:
                           for moment in range(many + 1)]
         self._of_lines = [[pair for pair in assumed if pair[0][0] != "flag" and pair[0][1] == index]
                           for index in range(many)]
+        self._near = {most: self._turns.all_within(most) for most in sorted(list(bounds_of(tree, items)))}
 
     def allows(self, moment, flags):
         """True if the assumptions allow the flags at the moment."""
@@ -44,9 +56,11 @@ class Film:
         if item[0] == "flags":
             found = [flags] if fits(flags, item[1]) else []
         elif item[0] == "some":
-            found = self._turns.within(flags, item[2])
+            found = self._near[most_needed(self._tree, item)][flags]
         else:
             found = [self._turns.after[flags][slot] for kind, slot in self.lines_of(index, flags)]
+        if len(self._of_flags[index + 1]) == 0:
+            return list(found)
         return [after for after in found if self.allows(index + 1, after)]
 
     def ahead(self):

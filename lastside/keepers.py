@@ -1,6 +1,7 @@
 """Keepers: what holds the entries of some slots and decides where a load goes."""
 
-from lastside.checks import MOST_ENTRIES, check_different_entries, check_entries, check_entry, check_flags, check_order
+from lastside.caches import found_slot
+from lastside.checks import MOST_ENTRIES, check_different_entries, check_entries, check_flags, check_order
 from lastside.rules import check_rule, turned_by, victim_by
 
 
@@ -19,10 +20,7 @@ class Keeper:
 
     def slot_of(self, entry):
         """The slot of the entry, or None if the keeper does not have it."""
-        check_entry(entry)
-        if entry not in self._entries:
-            return None
-        return self._entries.index(entry)
+        return found_slot(self._entries, entry)
 
     def request(self, entry):
         """Answers a request for the entry: ("hit", slot, None) or ("load", slot, evicted)."""

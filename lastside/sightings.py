@@ -84,14 +84,16 @@ class Turns:
         return hits + loads
 
     def within(self, flags, most):
-        """The flags to which at most so many requests lead from the flags; None is no bound."""
+        """The flags to which at most so many requests lead from the flags."""
         found = {flags: True}
         front = [flags]
-        rounds = 0
-        while len(front) > 0 and (most is None or rounds < most):
+        for _ in range(most):
             behind = {after: True for before in front for after in self.after[before] if after not in found}
             for after in behind:
                 found[after] = True
             front = list(behind)
-            rounds += 1
         return list(found)
+
+    def all_within(self, most):
+        """The flags to which at most so many requests lead, by the flags before them."""
+        return {flags: self.within(flags, most) for flags in self.every}

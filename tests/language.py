@@ -33,6 +33,8 @@ __and__ __or__ __xor__ __lshift__ __rshift__ __radd__ __rsub__ __rmul__ __rfloor
 __rxor__ __rlshift__ __rrshift__ __iadd__ __isub__ __imul__ __ifloordiv__ __imod__ __ipow__ __iand__ __ior__
 __ixor__ __ilshift__ __irshift__ __neg__ __pos__ __invert__ __abs__ __bool__ __contains__ __getitem__
 __setitem__""".split())
+MAY_CHANGE = set("""__init__ __setitem__ __call__ __enter__ __exit__ __iadd__ __isub__ __imul__ __ifloordiv__ __imod__
+__ipow__ __iand__ __ior__ __ixor__ __ilshift__ __irshift__""".split())
 DOUBLE = set("__init__ __eq__ __repr__ __str__ __len__ __enter__ __exit__ __call__ __iter__".split()) | OPERATORS
 
 FIRST_METHODS = set("""append clear copy count endswith extend find get index insert isalnum isalpha isdigit
@@ -652,6 +654,85 @@ def class_name_faults(trees):
     return faults
 
 
+def is_fresh(node):
+    """True if an expression makes a new list or dict."""
+    if isinstance(node, ast.BinOp) and isinstance(node.op, (ast.Add, ast.Mult)):
+        return is_fresh(node.left) or is_fresh(node.right)
+    if isinstance(node, ast.Subscript):
+        return isinstance(node.slice, ast.Slice)
+    return isinstance(node, (ast.List, ast.Dict, ast.ListComp, ast.DictComp)) \
+        or called_name(node) in ("list", "dict", "set", "sorted")
+
+
+def values_of(function):
+    """The values that a function assigns to its local variables, by their names; None for parts of others."""
+    found = {}
+    for node in ast.walk(function):
+        targets = node.targets if isinstance(node, ast.Assign) else [node.target] if isinstance(node, ast.For) else []
+        for target in targets:
+            plain = isinstance(node, ast.Assign) and isinstance(target, ast.Name)
+            for part in ast.walk(target):
+                if isinstance(part, ast.Name) and isinstance(part.ctx, ast.Store):
+                    found.setdefault(part.id, []).append(node.value if plain else None)
+    return {name: values for name, values in found.items() if name not in {part.arg for part in parameters_of(function)}}
+
+
+def change_faults(function, classes):
+    """What a function changes that it did not create itself: L5 Operators."""
+    faults = []
+    values = values_of(function)
+    fresh = {name for name, found in values.items() if all(is_fresh(value) for value in found)}
+    made = {name for name, found in values.items() if all(called_name(value) in classes for value in found)}
+    made |= {"self"} if function.name == "__init__" else set()
+    for node in ast.walk(function):
+        stored = isinstance(getattr(node, "ctx", None), (ast.Store, ast.Del))
+        if isinstance(node, ast.Attribute) and stored:
+            right = isinstance(node.value, ast.Name) and node.value.id in made
+        elif isinstance(node, ast.Subscript) and stored:
+            right = isinstance(node.value, ast.Name) and node.value.id in fresh
+        elif called_method(node) in CHANGING:
+            right = isinstance(node.func.value, ast.Name) and node.func.value.id in fresh and not is_generator(function)
+        else:
+            right = not isinstance(node, ast.AugAssign) or isinstance(node.value, ast.Constant)
+        if not right:
+            faults.append(("L5", node.lineno, f"{function.name} changes something"))
+    return faults
+
+
+def purity_faults(trees):
+    """What properties and operators, and all that they call, change: L5. Calls are followed by their names."""
+    faults = []
+    classes = {node.name: node for tree in trees.values() for node in classes_of(tree)}
+    by_name = {}
+    for tree in trees.values():
+        for function in functions_of(tree):
+            by_name.setdefault(function.name, []).append(function)
+    waiting, properties = [], set()
+    for node in classes.values():
+        for part in [part for part in node.body if isinstance(part, ast.FunctionDef)]:
+            if any(isinstance(name, ast.Name) and name.id == "property" for name in part.decorator_list):
+                properties.add(part.name)
+                waiting.append(part)
+            elif part.name in DOUBLE - MAY_CHANGE:
+                waiting.append(part)
+    seen = []
+    while waiting:
+        function = waiting.pop()
+        if function in seen:
+            continue
+        seen.append(function)
+        faults.extend(change_faults(function, classes))
+        for node in ast.walk(function):
+            name = called_name(node) or called_method(node)
+            if isinstance(node, ast.Attribute) and node.attr in properties:
+                name = node.attr
+            if name in classes:
+                waiting.extend(part for part in classes[name].body
+                               if isinstance(part, ast.FunctionDef) and part.name == "__init__")
+            waiting.extend(part for part in by_name.get(name, []) if not is_setter(part))
+    return faults
+
+
 def package_faults(sources):
     """The faults of all files together; `sources` has the text of each file by its name without `.py`."""
     trees = {name: ast.parse(source) for name, source in sources.items()}
@@ -664,4 +745,5 @@ def package_faults(sources):
         if name in FILE_NAMES or name.startswith(("law_", "test_")):
             faults.append(("L14", 1, name))
         faults.extend(import_faults(name, tree, trees))
-    return faults + circle_faults(trees) + method_faults(trees) + class_name_faults(trees)
+    faults += circle_faults(trees) + method_faults(trees) + class_name_faults(trees)
+    return faults + purity_faults(trees)

@@ -75,7 +75,7 @@ class CompareTest(Case):
         chance = random.Random(181)
         words = []
         for number in range(500):
-            many = chance.randrange(1, 5)
+            many = chance.randrange(1, 6)
             entries = names(many)
             others = chance.sample(entries, many)
             words.append(self.check(random_keeper(chance, many, entries), random_keeper(chance, many, others)))

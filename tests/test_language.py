@@ -95,10 +95,19 @@ class CheckerTest(unittest.TestCase):
             with self.subTest(source):
                 self.assertIn(rule, self.rules(source + "\n"))
 
+    def test_what_operators_may_change(self):
+        source = "class A:\n    def __init__(self, n):\n        self.n = n\n\n    def __add__(self, other):\n        return f(other)\n\n\n" \
+                 "def f(a):\n    b = A(1)\n    b.n = []\n    c = [a]\n    c.append(1)\n    c[0] = 2\n    k = 0\n    k += 1\n    return b\n"
+        self.assertEqual(package_faults({"a": source}), [])
+
     def test_rows_of_a_package(self):
         rows = [
             ("L2", {"a": "from lastside.b import x\n", "b": "X = 1\n"}),
             ("L2", {"a": "from random import random\n\n\ndef f():\n    return random()\n"}),
+            ("L5", {"a": "class A:\n    def __add__(self, other):\n        return f(self)\n\n\ndef f(a):\n    a.n = 1\n    return a\n"}),
+            ("L5", {"a": "class A:\n    @property\n    def n(self):\n        return f([])\n\n\ndef f(a):\n    a.append(1)\n    return a\n"}),
+            ("L5", {"a": "class A:\n    def __contains__(self, x):\n        return f(x)\n\n\ndef f(a):\n    b = a\n    b[0] = 1\n    return b\n"}),
+            ("L5", {"a": "class A:\n    def __len__(self):\n        return len(f(1))\n\n\ndef f(a):\n    b = []\n    b += [a]\n    return b\n"}),
             ("L14", {"Big": ""}), ("L14", {"test_a": ""}), ("L14", {"len": ""}),
             ("L15", {"a": "X = [1]\n\n\ndef f():\n    return X\n"}),
             ("L16", {"a": "from lastside.b import x\nY = x\n", "b": "from lastside.c import x\nZ = x\n", "c": "x = 1\n"}),
