@@ -45,12 +45,24 @@ def mirrored_flags(pattern):
     return "".join([MIRRORED_SIDES[flag] for flag in pattern[::-1]])
 
 
+def flags_of_number(places, number):
+    """The flags of so many forks with this number, counted from 0 in ascending order."""
+    # Flags in ascending order are the numbers from 0 in binary, with L for 0 and R for 1.
+    return "".join([SIDES[number >> (places - 1 - fork) & 1] for fork in range(places)])
+
+
 def each_flags(tree):
     """All flags of the tree, ascending as texts."""
     places = tree.forks
-    # Flags in ascending order are the numbers from 0 in binary, with L for 0 and R for 1.
     for number in range(1 << places):
-        yield "".join([SIDES[number >> (places - 1 - fork) & 1] for fork in range(places)])
+        yield flags_of_number(places, number)
+
+
+def all_flags(tree):
+    """The list of all flags of the tree, ascending as texts."""
+    # Operators need the flags too, and what they call must not yield, so this does not go over `each_flags`.
+    places = tree.forks
+    return [flags_of_number(places, number) for number in range(1 << places)]
 
 
 def all_after(tree, flags, slots):

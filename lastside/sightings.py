@@ -2,7 +2,7 @@
 
 from lastside.checks import is_number, is_pattern, is_run, is_slot
 from lastside.errors import InvalidItem, TooMany
-from lastside.flags import each_flags, fits, turned, victim_of
+from lastside.flags import all_flags, fits, turned, victim_of
 from lastside.runs import end_pattern, first_wrong
 
 MOST_SLOTS = 7
@@ -71,7 +71,7 @@ class Turns:
     """What requests do to all flags of a tree: the flags behind them, by slot, and the victims."""
 
     def __init__(self, tree):
-        every = list(each_flags(tree))
+        every = all_flags(tree)
         self.every = every
         self.after = {flags: [turned(tree, flags, slot) for slot in range(len(tree))] for flags in every}
         self.victims = {flags: victim_of(tree, flags) for flags in every}

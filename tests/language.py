@@ -691,7 +691,7 @@ def change_faults(function, classes):
         elif isinstance(node, ast.Subscript) and stored:
             right = isinstance(node.value, ast.Name) and node.value.id in fresh
         elif called_method(node) in CHANGING:
-            right = isinstance(node.func.value, ast.Name) and node.func.value.id in fresh and not is_generator(function)
+            right = isinstance(node.func.value, ast.Name) and node.func.value.id in fresh
         else:
             right = not isinstance(node, ast.AugAssign) or isinstance(node.value, ast.Constant)
         if not right:
@@ -699,37 +699,61 @@ def change_faults(function, classes):
     return faults
 
 
+def is_property(node):
+    """True if a statement of a class is a property, not its setter."""
+    return isinstance(node, ast.FunctionDef) and any(
+        isinstance(name, ast.Name) and name.id == "property" for name in node.decorator_list)
+
+
+def pure_methods(classes):
+    """The methods that change nothing, operators and properties, as tuples (function, line, way)."""
+    return [(part, part.lineno, f"{node.name}.{part.name}") for node in classes.values() for part in node.body
+            if is_property(part) or isinstance(part, ast.FunctionDef) and part.name in DOUBLE - MAY_CHANGE]
+
+
+def makers_of(name, classes):
+    """The `__init__` that a call of a class runs, its own one or that of a base class; a list of at most one."""
+    if name not in classes:
+        return []
+    own = [part for part in classes[name].body if isinstance(part, ast.FunctionDef) and part.name == "__init__"]
+    inherited = [maker for base in classes[name].bases if isinstance(base, ast.Name)
+                 for maker in makers_of(base.id, classes)]
+    return (own + inherited)[:1]
+
+
+def name_run_by(node, properties):
+    """The name of the function, method, class or property that a node runs, or None."""
+    if isinstance(node, ast.keyword) and node.arg == "key":
+        return getattr(node.value, "id", getattr(node.value, "attr", None))
+    if isinstance(node, ast.Attribute) and node.attr in properties:
+        return node.attr
+    return called_name(node) or called_method(node)
+
+
 def purity_faults(trees):
-    """What properties and operators, and all that they call, change: L5. Calls are followed by their names."""
+    """What properties and operators, and all that they call, change: L5. Calls are followed by their names.
+
+    A function that yields counts as one that changes something, because it is moved on.
+    """
     faults = []
     classes = {node.name: node for tree in trees.values() for node in classes_of(tree)}
+    properties = {part.name for node in classes.values() for part in node.body if is_property(part)}
     by_name = {}
-    for tree in trees.values():
-        for function in functions_of(tree):
-            by_name.setdefault(function.name, []).append(function)
-    waiting, properties = [], set()
-    for node in classes.values():
-        for part in [part for part in node.body if isinstance(part, ast.FunctionDef)]:
-            if any(isinstance(name, ast.Name) and name.id == "property" for name in part.decorator_list):
-                properties.add(part.name)
-                waiting.append(part)
-            elif part.name in DOUBLE - MAY_CHANGE:
-                waiting.append(part)
-    seen = []
+    for function in [part for tree in trees.values() for part in functions_of(tree) if not is_setter(part)]:
+        by_name.setdefault(function.name, []).append(function)
+    waiting, seen = pure_methods(classes), set()
     while waiting:
-        function = waiting.pop()
+        function, line, way = waiting.pop(0)
         if function in seen:
             continue
-        seen.append(function)
+        seen.add(function)
+        if is_generator(function):
+            faults.append(("L5", line, f"{way} yields"))
         faults.extend(change_faults(function, classes))
         for node in ast.walk(function):
-            name = called_name(node) or called_method(node)
-            if isinstance(node, ast.Attribute) and node.attr in properties:
-                name = node.attr
-            if name in classes:
-                waiting.extend(part for part in classes[name].body
-                               if isinstance(part, ast.FunctionDef) and part.name == "__init__")
-            waiting.extend(part for part in by_name.get(name, []) if not is_setter(part))
+            name = name_run_by(node, properties)
+            for part in makers_of(name, classes) + by_name.get(name, []):
+                waiting.append((part, node.lineno, f"{way} > {name}"))
     return faults
 
 

@@ -5,7 +5,7 @@ import random
 import unittest
 
 from lastside.errors import InvalidFlags, InvalidSlot
-from lastside.flags import all_after, blocking, each_flags, fits, flags_after, mirrored_flags, victim_of
+from lastside.flags import all_after, all_flags, blocking, each_flags, fits, flags_after, mirrored_flags, victim_of
 from lastside.trees import Tree
 from tests.case import Case, other_than
 from tests.plain import STRANGE, Plain, large_texts, texts_up_to
@@ -58,6 +58,7 @@ class TurnsTest(Case):
         self.exactly(blocking(tree, "", 0), [])
         self.exactly(all_after(tree, "", [0, 0]), "")
         self.exactly(list(each_flags(tree)), [""])
+        self.exactly(all_flags(tree), [""])
         self.exactly(mirrored_flags(""), "")
         self.exactly(fits("", ""), True)
 
@@ -88,6 +89,15 @@ class TextsTest(Case):
             tree = Tree(text)
             self.exactly(list(each_flags(tree)), sorted("".join(flags) for flags in
                                                         itertools.product("LR", repeat=tree.forks)))
+
+    def test_all_flags_are_those_that_each_flags_yields(self):
+        for text in texts_up_to(6):
+            tree = Tree(text)
+            self.exactly(all_flags(tree), list(each_flags(tree)))
+        self.exactly(all_flags(Tree("((..).)")), ["LL", "LR", "RL", "RR"])
+        found = all_flags(Tree("(..)"))
+        found.clear()
+        self.exactly(all_flags(Tree("(..)")), ["L", "R"])
 
     def test_each_flags_yields_one_by_one(self):
         first = list(itertools.islice(each_flags(Tree.even(6)), 3))

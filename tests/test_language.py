@@ -100,6 +100,55 @@ class CheckerTest(unittest.TestCase):
                  "def f(a):\n    b = A(1)\n    b.n = []\n    c = [a]\n    c.append(1)\n    c[0] = 2\n    k = 0\n    k += 1\n    return b\n"
         self.assertEqual(package_faults({"a": source}), [])
 
+    def yielding(self, files):
+        return [what for rule, _, what in package_faults(files) if rule == "L5"]
+
+    def test_no_operator_comes_by_a_yield(self):
+        step = "def steps(a):\n    yield a\n"
+        operator = "class A:\n    def __add__(self, other):\n        return f(other)\n\n\n"
+        rows = [
+            ("A.__add__ > f > steps yields", {"a": operator + "def f(a):\n    return list(steps(a))\n\n\n" + step}),
+            ("A.__add__ > f > steps yields", {"a": operator + "def f(a):\n    for x in steps(a):\n        return x\n\n\n" + step}),
+            ("A.__add__ > f > B > steps yields", {
+                "a": "from lastside.b import B\n\n\n" + operator + "def f(a):\n    return B(a)\n",
+                "b": "from lastside.c import steps\n\n\nclass B:\n    def __init__(self, a):\n        self.rows = list(steps(a))\n",
+                "c": step}),
+            ("A.__add__ > f > C > steps yields", {
+                "a": operator + "class B:\n    def __init__(self, a):\n        self.rows = [x for x in steps(a)]\n\n\n"
+                     "class C(B):\n    pass\n\n\ndef f(a):\n    return C(a)\n\n\n" + step}),
+            ("A.__add__ > f > place > steps yields", {
+                "a": operator + "def place(x):\n    return sum(steps(x))\n\n\n"
+                     "def f(a):\n    return sorted(a, key=place)\n\n\n" + step}),
+            ("A.n > walk yields", {
+                "a": "class A:\n    @property\n    def n(self):\n        return list(self.walk())\n\n"
+                     "    def walk(self):\n        yield from [1]\n"}),
+            ("A.__eq__ > steps yields", {"a": "class A:\n    def __eq__(self, other):\n        return any(steps(other))\n\n\n" + step}),
+            ("A.__len__ > steps yields", {"a": "class A:\n    def __len__(self):\n        return len(list(steps(1)))\n\n\n" + step}),
+            ("A.n yields", {"a": "class A:\n    @property\n    def n(self):\n        yield 1\n"}),
+        ]
+        for what, files in rows:
+            with self.subTest(files):
+                self.assertIn(what, self.yielding(files))
+
+    def test_where_a_yield_is_allowed(self):
+        step = "def steps(a):\n    yield a\n"
+        rows = [
+            {"a": "class A:\n    def __init__(self, a):\n        self.rows = list(steps(a))\n\n\n" + step},
+            {"a": "class A:\n    def __add__(self, other):\n        return 1\n\n    def told(self):\n        return list(steps(1))\n\n\n" + step},
+            {"a": "class A:\n    def __init__(self):\n        self.rows = []\n\n    @property\n    def n(self):\n        return 1\n\n"
+                  "    @n.setter\n    def n(self, value):\n        self.rows = list(steps(value))\n\n\n" + step},
+        ]
+        for files in rows:
+            with self.subTest(files):
+                self.assertEqual(self.yielding(files), [])
+
+    def test_a_yield_on_the_way_of_the_sum_of_boards(self):
+        files = sources()
+        files["sightings"] = files["sightings"].replace("all_flags", "each_flags").replace("each_flags(tree)", "list(each_flags(tree))")
+        ways = self.yielding(files)
+        self.assertEqual([what for what in ways if not what.endswith(" > Turns > each_flags yields")], [])
+        self.assertEqual(len(ways), 1)
+
     def test_rows_of_a_package(self):
         rows = [
             ("L2", {"a": "from lastside.b import x\n", "b": "X = 1\n"}),

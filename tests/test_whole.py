@@ -3,7 +3,9 @@
 import copy
 import importlib
 import inspect
+import os
 import random
+import sys
 import unittest
 
 from lastside.boards import Board
@@ -278,6 +280,51 @@ class LimitsTest(Case):
         self.refuses(InvalidNumber, (great,), Desk(cache()).configure, capacity=great)
         tree, slots = arranged([(-great, great)], [-great, great])
         self.exactly((tree.text, slots), ("(..)", [-great, great]))
+
+
+class OperatorTest(Case):
+    """What operators and properties run: no generator is moved on by them."""
+
+    def functions_run_by(self, action):
+        """The code objects of the package that run while the action runs."""
+        found = []
+
+        def note(frame, event, value):
+            if event == "call" and frame.f_code not in found:
+                found.append(frame.f_code)
+
+        before = sys.getprofile()
+        sys.setprofile(note)
+        try:
+            action()
+        finally:
+            sys.setprofile(before)
+        return [code for code in found if os.path.basename(os.path.dirname(code.co_filename)) == "lastside"]
+
+    def yielding(self, codes):
+        return [code.co_name for code in codes if code.co_flags & inspect.CO_GENERATOR]
+
+    def test_no_generator_runs(self):
+        items = [("flags", "L??"), ("some", 0, None), ("request", (0, 1, 3)), ("some", 1, 2), ("load", (2, 3))]
+        first, second = Board(EVEN, items), Board(EVEN, items)
+        first.tell(("kind", 2, "hit"))
+        second.tell(("flag", 3, 0, "R"))
+        desk, one, other = Desk(cache()), cache(), cache()
+        actions = {
+            "board_with": lambda: first + second, "is_claim": lambda: ("kind", 2, "hit") in first,
+            "read_forks": lambda: EVEN + EVEN, "__eq__": lambda: EVEN == Tree("(..)"), "__len__": lambda: len(EVEN), "__str__": lambda: str(EVEN),
+            "forks": lambda: EVEN.forks, "height": lambda: EVEN.height, "least_depth": lambda: EVEN.least_depth,
+            "is_even": lambda: EVEN.is_even, "top": lambda: EVEN.top, "victim": lambda: one.victim, "__contains__": lambda: "a" in one,
+            "misses": lambda: desk.misses, "capacity": lambda: desk.capacity,
+        }
+        for name, action in actions.items():
+            with self.subTest(name):
+                codes = self.functions_run_by(action)
+                self.assertIn(name, [code.co_name for code in codes])
+                self.assertEqual(self.yielding(codes), [])
+        self.assertEqual(self.yielding(self.functions_run_by(lambda: one == other) + self.functions_run_by(lambda: len(one))), [])
+        # The test sees a generator where one runs.
+        self.assertEqual(self.yielding(self.functions_run_by(lambda: list(EVEN.walk()))), ["walk"])
 
 
 class AnyValueTest(Case):
